@@ -1,0 +1,1 @@
+"""Turnyard: rows of turns, and the one yard of each."""
