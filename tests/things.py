@@ -27,7 +27,7 @@ def replaced(parts, place, part):
 
 
 def odd_things():
-    """Things of every kind that is told; none is a turn, a row or a word, whatever size or row."""
+    """Things of every kind that is told; none is a turn, a row, a word or a ladder, whatever size or row."""
     plain = [-1, 0, 1, 2, 6, 10 ** 30, -10 ** 30, True, False, None, "", "0", "still", "0 1", "()", [], [0], [[]]]
     things = list(plain)
     for thing in (0, True, None, "", "01", [], ()):
