@@ -1,4 +1,4 @@
-"""What DOC.md says of words, yards and ladders, said again the long way, with nothing of the program in it."""
+"""What DOC.md says of words, ladders and yards, said again the long way, with nothing of the program in it."""
 
 from functools import lru_cache
 from itertools import product
@@ -76,6 +76,17 @@ def plain_ladder(yard, size):
     return tuple(rungs)
 
 
+def empty_yard(size):
+    """The ladder of the empty row."""
+    return plain_ladder([tuple(range(size))], size)
+
+
+@lru_cache(maxsize=None)
+def whole_yard(size):
+    """The ladder of the yard of all turns."""
+    return plain_ladder(all_turns(size), size)
+
+
 def numbered(yard):
     """The turns of a ladder in the order of their numbers."""
     turns = []
@@ -136,3 +147,65 @@ def rows(size):
     for turn in some_turns(size, 50):
         told += [(turn, turn), (turn, backward(turn)), (turns[0], turn), (turn, turns[0], turn)]
     return tuple(told)
+
+
+@lru_cache(maxsize=None)
+def yards(size):
+    """Unlike yards, each a ladder and all its turns: all there are of up to 4 points, many of 5 and 6."""
+    once = {yard_of(row, size): None for row in rows(size)}
+    return tuple((plain_ladder(turns, size), turns) for turns in once)
+
+
+@lru_cache(maxsize=None)
+def some_yards(size):
+    """Few enough to take each with each: all there are of up to 4 points, the greatest ones of 5 and 6 among them."""
+    if size == 6:
+        once = {yard_of(row, size): None for row, count in ROWS_OF_6}
+        once.update((turns, None) for told, turns in yards(size)[5::40])
+        return tuple((plain_ladder(turns, size), turns) for turns in once)
+    if size == 5:
+        rising = sorted(yards(size), key=lambda yard: len(yard[1]))
+        return tuple(rising[:-4:4] + rising[-4:])
+    return yards(size)
+
+
+def conjugate(turn, carrier):
+    return then(then(backward(carrier), turn), carrier)
+
+
+def reached(steps, size):
+    """What comes of these turns, done one behind the other: they come to their backs by themselves."""
+    start = tuple(range(size))
+    told = {start}
+    edge = {start}
+    while edge:
+        edge = {then(turn, step) for turn in edge for step in steps} - told
+        told |= edge
+    return told
+
+
+def closed(turns, size):
+    """The least yard that has these turns. One that has come of others already adds nothing, so it is passed over."""
+    told = reached([], size)
+    steps = []
+    for turn in sorted(turns):
+        if turn not in told:
+            steps.append(turn)
+            told = reached(steps, size)
+    return frozenset(told)
+
+
+@lru_cache(maxsize=None)
+def commutators(yard):
+    backs = {turn: backward(turn) for turn in yard}
+    return frozenset(then(then(backs[one], backs[other]), then(one, other)) for one in yard for other in yard)
+
+
+@lru_cache(maxsize=None)
+def right_shares(inner, outer):
+    return frozenset(frozenset(then(step, turn) for step in inner) for turn in outer)
+
+
+@lru_cache(maxsize=None)
+def left_shares(inner, outer):
+    return frozenset(frozenset(then(turn, step) for step in inner) for turn in outer)

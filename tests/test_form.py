@@ -30,6 +30,14 @@ TypedDict TYPE_CHECKING abstractmethod
 """.split()
 
 
+# L25.
+METHODS = """
+append clear copy count endswith extend find get index insert isalnum isalpha isdigit islower isspace isupper items join
+keys ljust lower lstrip partition pop remove replace reverse rfind rjust rpartition rsplit rstrip setdefault split
+splitlines startswith strip update upper values zfill bit_length
+""".split()
+
+
 def files():
     return sorted(path for path in PACKAGE.rglob("*") if path.is_file() and path.parent.name != "__pycache__")
 
@@ -78,6 +86,30 @@ class Form(unittest.TestCase):
                 self.assertRegex(node.module, r"^turnyard\.[a-z_]+$", name)
                 for alias in node.names:
                     self.assertNotEqual(alias.name, "*", name)
+
+    def test_no_two_files_draw_from_one_another(self):
+        drawn = {path.stem: set() for path in files()}
+        for name, node in self.nodes():
+            if isinstance(node, ast.ImportFrom):
+                drawn[name[:-3]].add(node.module.split(".")[1])
+        # A file that draws from none but dropped ones is dropped; files in a ring never are.
+        while any(not others for others in drawn.values()):
+            free = {name for name, others in drawn.items() if not others}
+            drawn = {name: others - free for name, others in drawn.items() if name not in free}
+        self.assertEqual(drawn, {})
+
+    def test_no_local_is_called_like_an_import(self):
+        for path in files():
+            nodes = list(ast.walk(ast.parse(path.read_text())))
+            imports = {alias.name for node in nodes if isinstance(node, ast.ImportFrom) for alias in node.names}
+            bound = {node.id for node in nodes if isinstance(node, ast.Name) and isinstance(node.ctx, ast.Store)}
+            bound |= {node.arg for node in nodes if isinstance(node, ast.arg)}
+            self.assertEqual(imports & bound, set(), path.name)
+
+    def test_methods(self):
+        for name, node in self.nodes():
+            if isinstance(node, ast.Attribute):
+                self.assertIn(node.attr, METHODS, (name, node.lineno))
 
     def test_names(self):
         for name, node in self.nodes():

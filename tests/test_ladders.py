@@ -5,7 +5,7 @@ import unittest
 from math import factorial, prod
 
 from plain import ROWS_OF_6, numbered, plain_ladder, rows, yard_of
-from things import SIZES, all_turns, odd_things, some_turns
+from things import SIZES, all_turns, odd_things, only_tuples, some_turns
 from turnyard import ladders
 from turnyard.errors import NoNumber, NoText, NoTurn, NotWithin, YardError
 from turnyard.ladders import count_of, has, ladder, number_of, turn_at, turns_of
@@ -15,14 +15,6 @@ def made(size, step=1):
     """Ladders, each with all turns of its yard."""
     for row in rows(size)[::step]:
         yield ladder(row, size), yard_of(row, size)
-
-
-class Ladders(unittest.TestCase):
-    def tuples_of_whole_numbers(self, thing):
-        if type(thing) is not int:
-            self.assertIs(type(thing), tuple)
-            for part in thing:
-                self.tuples_of_whole_numbers(part)
 
 
 class Interface(unittest.TestCase):
@@ -35,7 +27,7 @@ class Interface(unittest.TestCase):
             self.assertEqual(list(inspect.signature(getattr(ladders, name)).parameters), arguments, name)
 
 
-class Ladder(Ladders):
+class Ladder(unittest.TestCase):
     def test_by_name(self):
         self.assertEqual(ladder((), 1), (((0, (0,)),),))
         self.assertEqual(ladder(((1, 0),), 2), (((0, (0, 1)), (1, (1, 0))), ((1, (0, 1)),)))
@@ -72,7 +64,7 @@ class Ladder(Ladders):
         for size in SIZES:
             for row in rows(size)[::7]:
                 told = ladder(row, size)
-                self.tuples_of_whole_numbers(told)
+                self.assertTrue(only_tuples(told))
                 self.assertEqual(len(told), size)
                 for k, rung in enumerate(told):
                     points = [point for point, turn in rung]
@@ -116,7 +108,7 @@ class Ladder(Ladders):
             self.assertEqual(told[0][-1], (size - 1, (size - 1,) + tuple(range(size - 1))))
 
 
-class CountOf(Ladders):
+class CountOf(unittest.TestCase):
     def test_rows_of_6_points_by_name(self):
         for row, count in ROWS_OF_6:
             self.assertEqual(count_of(ladder(row, 6)), count, row)
@@ -129,7 +121,7 @@ class CountOf(Ladders):
                 self.assertEqual(count_of(told), prod(len(rung) for rung in told), told)
 
 
-class TurnsOf(Ladders):
+class TurnsOf(unittest.TestCase):
     def test_by_name(self):
         self.assertEqual(turns_of(ladder((), 2)), ((0, 1),))
         self.assertEqual(turns_of(ladder(((1, 2, 0),), 3)), ((0, 1, 2), (1, 2, 0), (2, 0, 1)))
@@ -144,10 +136,10 @@ class TurnsOf(Ladders):
     def test_tuples_of_whole_numbers(self):
         for size in SIZES:
             for told, yard in made(size, 11):
-                self.tuples_of_whole_numbers(turns_of(told))
+                self.assertTrue(only_tuples(turns_of(told)))
 
 
-class Has(Ladders):
+class Has(unittest.TestCase):
     def test_by_name(self):
         yard = ladder(((1, 2, 0),), 3)
         self.assertIs(has(yard, (0, 1, 2)), True)
@@ -162,7 +154,7 @@ class Has(Ladders):
                     self.assertIs(has(told, turn), turn in yard, (told, turn))
 
 
-class Numbers(Ladders):
+class Numbers(unittest.TestCase):
     def test_by_name(self):
         yard = ladder(((1, 0, 2), (0, 2, 1)), 3)
         # Rung 0: (0, 1, 2), (1, 0, 2), (2, 0, 1); rung 1: (0, 1, 2), (0, 2, 1), done first.
@@ -187,7 +179,7 @@ class Numbers(Ladders):
                     self.assertEqual(turn_at(told, number), turn, (told, number))
                     self.assertEqual(number_of(told, turn), number, (told, turn))
                     self.assertIs(type(number_of(told, turn)), int)
-                self.tuples_of_whole_numbers(turn_at(told, len(turns) - 1))
+                self.assertTrue(only_tuples(turn_at(told, len(turns) - 1)))
 
     def test_none_for_a_turn_that_the_yard_has_not(self):
         for size in SIZES:

@@ -26,6 +26,13 @@ def replaced(parts, place, part):
     return parts[:place] + (part,) + parts[place + 1:]
 
 
+def only_tuples(thing):
+    """Whether it is a whole number or a tuple of such things: no truth, no list."""
+    if type(thing) is tuple:
+        return all(only_tuples(part) for part in thing)
+    return type(thing) is int
+
+
 def odd_things():
     """Things of every kind that is told; none is a turn, a row, a word or a ladder, whatever size or row."""
     plain = [-1, 0, 1, 2, 6, 10 ** 30, -10 ** 30, True, False, None, "", "0", "still", "0 1", "()", [], [0], [[]]]

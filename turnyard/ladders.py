@@ -74,6 +74,14 @@ def turns_of(yard):
     return tuple(sorted(turns))
 
 
+def makers(yard):
+    # Few turns that make the whole yard: what holds for all its turns if it holds for these is asked of these alone.
+    turns = []
+    for rung in yard:
+        turns.extend([pair[1] for pair in rung])
+    return tuple(turns)
+
+
 def has(yard, turn):
     return number_of(yard, turn) is not None
 
@@ -92,11 +100,8 @@ def is_ladder(thing, size):
     # Asked ahead of comparing, which would take True for 1.
     if not isinstance(thing, tuple) or not all([is_tuple_of_pairs(rung, size) for rung in thing]):
         return False
-    turns = []
-    for rung in thing:
-        turns.extend([pair[1] for pair in rung])
     # A ladder's own turns make its yard, and of a yard there is but one ladder.
-    return ladder(tuple(turns), size) == thing
+    return ladder(makers(thing), size) == thing
 
 
 def number_of(yard, turn):
